@@ -1,0 +1,1 @@
+"""Stringheld: which rules of text handling hold in which string libraries."""
