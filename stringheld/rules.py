@@ -41,7 +41,9 @@ def are_arguments(library, rule, value):
     words = SHAPES[rule]
     if not isinstance(value, tuple) or len(value) != len(words):
         return False
-    return all([is_argument(library, word, item) for word, item in zip(words, value)])
+    if not all([is_argument(library, word, item) for word, item in zip(words, value)]):
+        return False
+    return are_places_within(library, words, value)
 
 
 def is_argument(library, word, value):
@@ -49,6 +51,17 @@ def is_argument(library, word, value):
     if word == "place":
         return is_place(value)
     return is_text(library, value) and len(value) <= LONGEST_ARGUMENT
+
+
+def are_places_within(library, words, arguments):
+    """Whether no place is greater than the length of a text.
+
+    Places are measured by a, and those of "equal parts" by b, too: in each
+    rule that has places these are all of its texts.
+    """
+    lengths = [total_length(library, item) for word, item in zip(words, arguments) if word == "text"]
+    places = [item for word, item in zip(words, arguments) if word == "place"]
+    return all([place <= longest for place in places for longest in lengths])
 
 
 def cut_made(library, text, place):
@@ -82,19 +95,13 @@ def cut_length(library, a, i):
 
 
 def cut_and_join(library, a, i):
-    # This rule excuses a cut that is refused, but no place greater than the length.
-    if i > total_length(library, a):
-        return False
     parts = cut_made(library, a, i)
     return parts is None or are_equal(library, joined(library, parts[0], parts[1]), a)
 
 
 def part_of_part(library, a, i, j):
-    # With j > i the rule needs no cut, so it holds whatever the places are.
     if j > i:
         return True
-    if i > total_length(library, a):
-        return False
     longer = cut_made(library, a, i)
     shorter = cut_made(library, a, j)
     if longer is None or shorter is None or j > total_length(library, longer[0]):
@@ -120,8 +127,6 @@ def equal_lengths(library, a, b):
 def equal_parts(library, a, b, i):
     if not are_equal(library, a, b):
         return True
-    if i > total_length(library, a) or i > total_length(library, b):
-        return False
     one = cut_made(library, a, i)
     other = cut_made(library, b, i)
     if one is None or other is None:

@@ -79,8 +79,7 @@ class RulesTest(unittest.TestCase):
             (lib(), ((66600,), 1)), (CLUSTERS, ((101, 769), 1)), (BYTES, ((), 0)), (UNITS, ((66600, 97), 2)),
         ), (
             (BYTES, ((233,), 1)), (BYTES, ((769,), 1)), (BYTES, ((97, 223), 2)), (BYTES, ((66600,), 3)),
-            (UNITS, ((66600,), 1)), (BYTES_BACK, ((233,), 3)), (lib(), ((97,), 2)), (CLUSTERS, ((101, 769), 2)),
-            (lib(), ((), 1)), (lib(), ((97,), 10 ** 30)),
+            (UNITS, ((66600,), 1)),
         ))
 
     def test_cut_length(self):
@@ -89,7 +88,7 @@ class RulesTest(unittest.TestCase):
             (UNITS, ((97, 66600), 3)), (COMPOSED, ((7865, 769), 1)),
         ), (
             (BYTES_BACK, ((769,), 1)), (BYTES, ((769,), 1)), (BYTES_BACK, ((66600,), 3)), (UNITS_BACK, ((66600,), 1)),
-            (UNITS, ((66600,), 1)), (lib(), ((97,), 2)), (BYTES_BACK, ((233,), 3)), (lib(), ((), 1)),
+            (UNITS, ((66600,), 1)),
         ))
 
     def test_cut_and_join(self):
@@ -97,9 +96,7 @@ class RulesTest(unittest.TestCase):
             (lib(), ((97, 101), 1)), (BYTES_BACK, ((233,), 1)), (BYTES, ((233,), 1)), (UNITS, ((66600,), 1)),
             (COMPOSED, ((7865, 769), 1)), (DECOMPOSED, ((101, 803, 769), 2)), (CLUSTERS, ((769, 101, 769), 1)),
             (lib(), ((), 0)),
-        ), (
-            (lib(), ((97,), 2)), (BYTES, ((233,), 3)), (BYTES_BACK, ((233,), 3)), (CLUSTERS, ((101, 769), 2)),
-        ))
+        ), ())
 
     def test_part_of_part(self):
         self.check("part of part", (
@@ -107,13 +104,10 @@ class RulesTest(unittest.TestCase):
             (lib(), ((97, 101), 0, 1)), (BYTES, ((233, 97), 1, 0)), (BYTES, ((233, 97), 2, 1)),
             (BYTES_BACK, ((97, 223), 2, 2)), (BYTES_BACK, ((97, 223), 3, 2)), (BYTES_BACK, ((66600, 97), 4, 3)),
             (CLUSTERS, ((101, 769, 97), 2, 1)), (COMPOSED, ((7865, 769), 2, 1)),
-        ), (
-            (lib(), ((97,), 2, 1)), (lib(), ((97,), 2, 2)), (BYTES, ((233,), 3, 1)), (BYTES_BACK, ((233,), 3, 0)),
-            (CLUSTERS, ((101, 769), 2, 0)),
-        ))
+        ), ())
 
-    def test_part_of_part_needs_no_cut_with_j_beyond_i(self):
-        self.check("part of part", ((lib(), ((97,), 1, 5)), (lib(), ((97,), 5, 7)), (BYTES, ((233,), 0, 9))), ())
+    def test_part_of_part_needs_no_cut_with_j_greater_than_i(self):
+        self.check("part of part", ((lib(), ((97,), 0, 1)), (BYTES, ((233,), 0, 1)), (BYTES, ((233,), 1, 2))), ())
 
     def test_first_part(self):
         self.check("first part", (
@@ -147,16 +141,14 @@ class RulesTest(unittest.TestCase):
         self.check("equal parts", (
             (lib(), ((97, 101), (97, 101), 1)), (lib(), ACCENTS + (1,)), (CANONICAL, ACCENTS + (0,)),
             (CANONICAL_CLUSTERS, ACCENTS + (1,)), (bytes_refuse, ((233,), (233,), 1)), (bytes_refuse, ACCENTS + (0,)),
-            (CANONICAL, ((101, 769, 803), (101, 803, 769), 1)), (lib(), ((97,), (83,), 9)),
+            (CANONICAL, ((101, 769, 803), (101, 803, 769), 1)), (lib(), ((97,), (83,), 1)),
         ), (
             (CANONICAL, ACCENTS + (1,)), (lib("bytes", "back", "canonical"), ACCENTS + (1,)),
             (bytes_refuse, ACCENTS + (1,)), (bytes_refuse, ACCENTS + (2,)),
-            (CANONICAL, ((101, 769, 803), (101, 803, 769), 2)), (lib(), ((97,), (97,), 2)),
-            (CANONICAL, ((97, 233), (97, 101, 769), 3)), (CANONICAL, ((97, 101, 769), (97, 233), 3)),
-            (CANONICAL_CLUSTERS, ACCENTS + (2,)),
-            # Beyond the length of one text, and refused in the other.
-            (bytes_refuse, ((233, 233), (101, 769, 101, 769), 5)),
-            (bytes_refuse, ((101, 769, 101, 769), (233, 233), 5)),
+            (CANONICAL, ((101, 769, 803), (101, 803, 769), 2)),
+            # Refused in one text alone.
+            (bytes_refuse, ((233, 233), (101, 769, 101, 769), 2)),
+            (bytes_refuse, ((101, 769, 101, 769), (233, 233), 3)),
         ))
 
     def test_equal_reversed(self):
@@ -326,6 +318,32 @@ class ArgumentsTest(unittest.TestCase):
         self.assertIs(holds_for(lib(), "every place", ((97,), 1)), True)
         self.assertRaises(BadArguments, holds_for, lib(), "every place", ((97,), False))
         self.assertRaises(BadArguments, holds_for, lib(), "every place", ((97,), True))
+
+    def test_places_up_to_the_length_of_a(self):
+        cases = ((lib(), (), 0), (lib(), (97,), 1), (BYTES, (233,), 2), (BYTES_BACK, (97, 66600), 5),
+                 (UNITS, (66600, 97), 3), (CLUSTERS, (101, 769), 1), (DECOMPOSED, (101, 769), 2), (COMPOSED, (233,), 1))
+        for library, a, longest in cases:
+            for rule in ("every place", "cut length", "cut and join"):
+                self.check_places(library, rule, lambda place: (a, place), longest)
+            for i in range(longest + 1):
+                self.check_places(library, "part of part", lambda place: (a, i, place), longest)
+                self.check_places(library, "part of part", lambda place: (a, place, i), longest)
+
+    def test_places_up_to_the_lengths_of_both(self):
+        cases = ((lib(), (97,), (97, 97), 1), (lib(), (97, 97), (97,), 1), (lib(), (97, 97), (97, 83), 2),
+                 (lib(), (), (97,), 0), (lib(), (97,), (), 0), (CANONICAL, (233,), (101, 769), 1),
+                 (BYTES, (233,), (101, 769), 2), (BYTES, (101, 769), (233,), 2), (BYTES_BACK, (66600,), (233,), 2),
+                 (UNITS, (66600,), (66600, 97), 2), (CLUSTERS, (101, 769), (97, 97), 1))
+        for library, a, b, longest in cases:
+            self.check_places(library, "equal parts", lambda place: (a, b, place), longest)
+
+    def check_places(self, library, rule, arguments_at, longest):
+        for place in range(longest + 1):
+            with self.subTest((library, rule, arguments_at(place))):
+                self.assertIs(type(holds_for(library, rule, arguments_at(place))), bool)
+        for place in (longest + 1, longest + 2, 99, 10 ** 30):
+            with self.subTest((library, rule, arguments_at(place))):
+                self.assertRaises(BadArguments, holds_for, library, rule, arguments_at(place))
 
     def test_order_of_errors(self):
         for library in NO_LIBRARIES:
