@@ -32,8 +32,13 @@ def holds_for(library, rule, arguments):
 
 def check_rule(value):
     """Raise BadRule for any value but the name of a rule."""
-    if not isinstance(value, str) or value not in SHAPES:
+    if not is_rule(value):
         raise BadRule("a rule is one of the names that rules() returns")
+
+
+def is_rule(value):
+    """Whether a value is the name of a rule."""
+    return isinstance(value, str) and value in SHAPES
 
 
 def are_arguments(library, rule, value):

@@ -1,5 +1,7 @@
-"""The examples of the document's interface, word for word."""
+"""The examples of the document's interface, word for word, and those of README.md."""
 
+import doctest
+import os
 import unittest
 
 LETTERS = """\
@@ -30,6 +32,43 @@ RULES = """\
 [22, ('text', 'text', 'place'), False, True]
 >>> shape("Cancel")
 raises BadRule
+"""
+
+DECISIONS = """\
+>>> from stringheld.decisions import counterexample, holds
+>>> clusters = ("clusters", "back", "canonical", "kept", "full")
+>>> [holds(clusters, ("marks",), "equal lengths"), holds(clusters, ("marks",), "lengths add"), counterexample(clusters, ("marks",), "lengths add"), counterexample(("bytes",) + clusters[1:], ("marks", "wide"), "cut length")]
+[True, False, ((101,), (769,)), ((769,), 1)]
+>>> holds(clusters, ("wide", "marks"), "cancel")
+raises BadKinds
+"""
+
+PROFILES = """\
+>>> from stringheld.profiles import implies, libraries_with, most_rules, parting, profile
+>>> every = ("marks", "special", "wide")
+>>> [len(profile(("points", "refuse", "points", "kept", "full"), every)), implies(every, "first part", "lengths add"), parting(("marks",), "lengths add", "first part"), most_rules(every)]
+[19, True, ('bytes', 'back', 'canonical', 'decomposed', 'full'), (('points', 'back', 'points', 'kept', 'simple'), ('points', 'refuse', 'points', 'kept', 'simple'))]
+>>> len(libraries_with(every, ("cut length", "equivalent means equal", "equal means same", "lower of upper", "lengths add")))
+4
+>>> libraries_with(every, ("cancel", "cancel"))
+raises BadRules
+"""
+
+NOTES = """\
+>>> from stringheld.notes import read_text, write_text
+>>> [write_text((101, 769, 66600)), write_text(()), read_text("223.97")]
+['101.769.66600', '-', (223, 97)]
+>>> read_text("98")
+raises InvalidText
+"""
+
+DESKS = """\
+>>> from stringheld.desks import Desk
+>>> desk = Desk(("points", "back", "points", "composed", "full"))
+>>> [desk.run("load 101"), desk.run("join 769"), desk.run("show"), desk.run("upper"), desk.run("show"), desk.undo(), desk.text, desk.run("length")]
+[None, None, '233', None, '201', None, (233,), '1']
+>>> desk.run("first 2")
+raises NotNow
 """
 
 
@@ -72,6 +111,24 @@ class ExamplesTest(unittest.TestCase):
 
     def test_rules(self):
         self.check(RULES, 2)
+
+    def test_decisions(self):
+        self.check(DECISIONS, 2)
+
+    def test_profiles(self):
+        self.check(PROFILES, 3)
+
+    def test_notes(self):
+        self.check(NOTES, 2)
+
+    def test_desks(self):
+        self.check(DESKS, 2)
+
+    def test_readme(self):
+        readme = os.path.join(os.path.dirname(os.path.abspath(__file__)), "..", "README.md")
+        failed, tried = doctest.testfile(readme, module_relative=False)
+        self.assertEqual(failed, 0)
+        self.assertGreater(tried, 0)
 
 
 if __name__ == "__main__":

@@ -3,7 +3,7 @@ import itertools
 import re
 import unittest
 
-from samples import NO_LIBRARIES, NO_RAW_TEXTS, NO_TUPLES, lib
+from samples import DESK, NO_LIBRARIES, NO_RAW_TEXTS, NO_TUPLES, lib
 from stringheld import libraries
 from stringheld.errors import BadLibrary, BadPlace, BadText, TextError
 from stringheld.letters import compose, decompose
@@ -15,7 +15,7 @@ STORES = ("composed", "decomposed", "kept")
 CASES = ("full", "simple")
 POINTS = (65, 69, 83, 97, 101, 115, 201, 223, 233, 769, 803, 7864, 7865, 66560, 66600)
 CAPITALS = {97: 65, 101: 69, 115: 83, 233: 201, 7865: 7864, 66600: 66560}
-NO_PLACES = (-1, -10 ** 30, 10 ** 30, True, False, None, "", "0", (), (0,), [], [0], {}, {0: 0})
+NO_PLACES = (-1, -10 ** 30, 10 ** 30, True, False, None, "", "0", (), (0,), [], [0], {}, {0: 0}, DESK)
 
 
 def texts_of(library, points=(83, 101, 223, 769, 803, 7865, 66600), longest=3):

@@ -1,7 +1,7 @@
 import copy
 import unittest
 
-from samples import NO_LIBRARIES, NO_RAW_TEXTS, NO_TUPLES, lib
+from samples import DESK, NO_LIBRARIES, NO_RAW_TEXTS, NO_RULES, NO_TUPLES, lib
 from stringheld import rules as rules_file
 from stringheld.errors import BadArguments, BadLibrary, BadRule
 from stringheld.libraries import all_libraries
@@ -30,10 +30,6 @@ SHAPES = (
     ("reversed twice", ("text",)),
     ("reversed length", ("text",)),
     ("reverse of sum", ("text", "text")),
-)
-NO_RULES = NO_TUPLES + (
-    "Cancel", "cancel ", " cancel", "lengths  add", "lengths", "length add", "text", ("cancel",), ["cancel"],
-    {"cancel": "cancel"}, ("lengths add", "points add"), (),
 )
 COMPOSED = lib(store="composed")
 DECOMPOSED = lib(store="decomposed")
@@ -279,7 +275,7 @@ class ArgumentsTest(unittest.TestCase):
             self.assertIs(type(holds_for(lib(), rule, right)), bool)
 
     def test_each_argument_of_a_wrong_kind(self):
-        no_places = (-1, -10 ** 30, True, False, None, "", "0", (), (97,), [0], {0: 0})
+        no_places = (-1, -10 ** 30, True, False, None, "", "0", (), (97,), [0], {0: 0}, DESK)
         for rule, words in SHAPES:
             right = tuple((97,) if word == "text" else 0 for word in words)
             for at, word in enumerate(words):
